@@ -1,0 +1,64 @@
+"""The part of Python that the package keeps to, as far as a short look at its files can tell."""
+
+import ast
+import pathlib
+import re
+import unittest
+
+PACKAGE = pathlib.Path(__file__).parent.parent / "widewords"
+FILES = sorted(PACKAGE.glob("**/*.py"))
+WORDS = re.compile(
+    r"\b(type|typing|typing_extensions|enum|Enum|IntEnum|StrEnum|Flag|IntFlag|Generic|Protocol|ABC|ABCMeta|namedtuple"
+    r"|NamedTuple|TypedDict|TYPE_CHECKING|abstractmethod)\b|dataclass|overload|contextmanager")
+LEFT_OUT = (
+    ast.With, ast.Match, ast.Global, ast.Nonlocal, ast.Yield, ast.YieldFrom, ast.Await, ast.AsyncFunctionDef,
+    ast.AsyncFor, ast.AsyncWith, ast.GeneratorExp, ast.NamedExpr, ast.Div, ast.Import, ast.TryStar,
+)
+OWN_NAMES = {
+    "len", "range", "enumerate", "zip", "min", "max", "sum", "abs", "sorted", "reversed", "int", "str", "bool", "bytes",
+    "list", "tuple", "dict", "set", "frozenset", "isinstance", "ord", "repr", "any", "all", "divmod", "Exception",
+    "ValueError", "KeyError", "IndexError", "LookupError", "ZeroDivisionError", "StopIteration",
+}
+
+
+class LanguageTest(unittest.TestCase):
+    def test_nothing_else_lies_in_the_package(self):
+        others = [path for path in PACKAGE.glob("**/*") if path.is_file() and "__pycache__" not in path.parts]
+        self.assertEqual(sorted(others), FILES)
+
+    def test_sizes_and_signs(self):
+        for path in FILES:
+            text = path.read_bytes().decode("ascii")
+            self.assertTrue(all(" " <= sign <= "~" or sign == "\n" for sign in text), path)
+            lines = text.splitlines()
+            self.assertLessEqual(len(lines), 400, path)
+            self.assertLessEqual(max(len(line) for line in lines), 120, path)
+            self.assertIsNone(WORDS.search(text), path)
+
+    def test_forms(self):
+        for path in FILES:
+            for node in ast.walk(ast.parse(path.read_text())):
+                where = (path.name, getattr(node, "lineno", 0))
+                self.assertNotIsInstance(node, LEFT_OUT, where)
+                if isinstance(node, ast.FunctionDef):
+                    self.assertLessEqual(node.end_lineno - node.lineno + 1, 40, where)
+                    self.assertFalse(node.decorator_list or node.args.vararg or node.args.kwarg, where)
+                if isinstance(node, ast.ImportFrom):
+                    self.assertTrue(node.level == 0 and node.module.startswith("widewords."), where)
+                if isinstance(node, ast.Constant):
+                    self.assertNotIsInstance(node.value, (float, complex), where)
+                if isinstance(node, ast.BinOp) and isinstance(node.op, ast.Pow):
+                    self.assertIsInstance(node.right, ast.Constant, where)
+
+    def test_names(self):
+        builtin = set(dir(__builtins__)) if not isinstance(__builtins__, dict) else set(__builtins__)
+        for path in FILES:
+            for node in ast.walk(ast.parse(path.read_text())):
+                bound = isinstance(node, ast.Name) and not isinstance(node.ctx, ast.Load)
+                name = node.id if isinstance(node, ast.Name) else getattr(node, "arg", getattr(node, "name", None))
+                if isinstance(name, str) and not isinstance(node, ast.keyword):
+                    self.assertFalse(name.startswith("_"), (path.name, name))
+                    if isinstance(node, ast.Name) and not bound:
+                        self.assertTrue(name not in builtin or name in OWN_NAMES, (path.name, name))
+                    else:
+                        self.assertNotIn(name, builtin, path.name)

@@ -1,0 +1,1 @@
+"""Widewords: wide numbers in narrow words."""
