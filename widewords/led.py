@@ -1,7 +1,8 @@
 """The tellings that lead a number to more or fewer words, read and meant as plain or signed."""
 
-from widewords.parts import MARKS, NIL, SPARE
-from widewords.parts import answer_marks, kept_mark, last_word, lowest, moved, rounds, rows, term, word
+from widewords.parts import MARKS, NIL
+from widewords.parts import answer_marks, gathered_unlike, kept_mark, last_word, lowest, moved, rounds, rows
+from widewords.parts import sign_filled, term, word
 
 # The words by which x, as it is read, and the answer, as it is meant, would be made wider.
 FILL = ("f", (0, 0, 0, 0))
@@ -23,8 +24,7 @@ def led_telling(read, meant, e):
 
 def filled(to, way, last):
     """Parts that put the word by which a number with that last word is made wider; the mark is 1 where it isn't 0."""
-    sign = ("twice", SPARE, last) if way == "signed" else ("mark", 0)
-    return rows([sign, ("less", to, NIL, NIL)])
+    return rows(sign_filled(to, last) if way == "signed" else [("mark", 0), ("less", to, NIL, NIL)])
 
 
 def widened(e):
@@ -41,5 +41,4 @@ def widened(e):
 
 def dropped(e):
     """Parts that look whether the words of x that go are those by which the answer would be made wider."""
-    looked = [("odd", SPARE, word("a", e, i=1, m=1), REFILL), ("any", LOST, LOST, SPARE)]
-    return rounds((-e, 0, 0), (), rows(looked))
+    return gathered_unlike(LOST, word("a", e, i=1, m=1), REFILL, (-e, 0, 0))

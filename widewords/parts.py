@@ -45,6 +45,11 @@ def moved(to, source, c=0):
     return rounds((c, 1, 0), sentence, rows([("move", word(to, i=1), word(source, i=1))]))
 
 
+def doubled(letter, count):
+    """Parts that bring a letter's words one place up, the mark coming in below; they stand within rounds."""
+    return rounds(count, (), rows([("twice", word(letter, j=1), word(letter, j=1))]))
+
+
 def kept_mark(to):
     """The row that puts the mark into a cell; the mark is 0 behind it."""
     return ("sum", to, NIL, NIL)
@@ -53,6 +58,16 @@ def kept_mark(to):
 def kept_contrary(to):
     """The rows that put 1 less the mark into a cell; the mark is 0 behind them."""
     return [("set", to, 1), ("less", to, to, NIL)]
+
+
+def sign_filled(to, last):
+    """The rows that put W - 1 where the highest two of a word is 1, else 0; the mark is that two behind them."""
+    return [("twice", SPARE, last), ("less", to, NIL, NIL)]
+
+
+def gathered_unlike(to, here, fill, count):
+    """Parts that let a cell, 0 ahead, be other than 0 where one of count words, here in each round, isn't the fill."""
+    return rounds(count, (), rows([("odd", SPARE, here, fill), ("any", to, to, SPARE)]))
 
 
 def asked_words(letter, m, count):
