@@ -62,3 +62,27 @@ class LanguageTest(unittest.TestCase):
                         self.assertTrue(name not in builtin or name in OWN_NAMES, (path.name, name))
                     else:
                         self.assertNotIn(name, builtin, path.name)
+
+    def test_own_names(self):
+        """L15 and L16: nothing in a def is called like an import or a class of its file, and no files go in a ring."""
+        drawn_from = {}
+        for path in FILES:
+            tree = ast.parse(path.read_text())
+            imports = [node for node in ast.walk(tree) if isinstance(node, ast.ImportFrom)]
+            drawn_from[path.stem] = {node.module.split(".")[1] for node in imports}
+            taken = {alias.name for node in imports for alias in node.names}
+            taken |= {node.name for node in tree.body if isinstance(node, ast.ClassDef)}
+            for node in ast.walk(tree):
+                name = node.arg if isinstance(node, ast.arg) else getattr(node, "id", None)
+                if isinstance(node, ast.arg) or isinstance(getattr(node, "ctx", None), ast.Store):
+                    self.assertNotIn(name, taken, path.name)
+            for node in imports:
+                owner = ast.parse((PACKAGE / f"{node.module.split('.')[1]}.py").read_text())
+                bound = {getattr(each, "name", None) for each in owner.body}
+                bound |= {target.id for each in owner.body if isinstance(each, ast.Assign) for target in each.targets}
+                self.assertLessEqual({alias.name for alias in node.names}, bound, path.name)
+        while drawn_from:
+            free = [name for name, others in drawn_from.items() if not others & set(drawn_from)]
+            self.assertTrue(free, drawn_from)
+            for name in free:
+                del drawn_from[name]
