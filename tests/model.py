@@ -269,9 +269,7 @@ class DeedCase(unittest.TestCase):
 
     def run_steps(self, came, w, n, x, y, asked=True):
         """The machine behind all rows; each sentence is asked on the way."""
-        machine = Model(w)
-        machine.put_number("a", x, n)
-        machine.put_number("b", y, n)
+        machine = self.machine_with(w, n, x, y)
         handed = machine.number("a", 100), machine.number("b", 100)
         for step in came:
             if step[0] == "row":
@@ -279,6 +277,13 @@ class DeedCase(unittest.TestCase):
             elif step[0] == "ask" and asked and not holds(step[1], n, step[2], step[3], machine):
                 self.fail(f"{step} does not hold: w {w} n {n} x {x} y {y}")
         self.assertEqual((machine.number("a", 100), machine.number("b", 100)), handed)
+        return machine
+
+    def machine_with(self, w, n, x, y):
+        """The machine ahead of all rows."""
+        machine = Model(w)
+        machine.put_number("a", x, n)
+        machine.put_number("b", y, n)
         return machine
 
     def check_number(self, machine, letter, many, worth, why):

@@ -14,6 +14,11 @@ LEFT_OUT = (
     ast.With, ast.Match, ast.Global, ast.Nonlocal, ast.Yield, ast.YieldFrom, ast.Await, ast.AsyncFunctionDef,
     ast.AsyncFor, ast.AsyncWith, ast.GeneratorExp, ast.NamedExpr, ast.Div, ast.Import, ast.TryStar,
 )
+# The methods of Python's own values that the package may call.
+OWN_METHODS = set("""
+    append clear copy count endswith extend find get index insert isalnum isalpha isdigit islower isspace isupper items
+    join keys ljust lower lstrip partition pop remove replace reverse rfind rjust rpartition rsplit rstrip setdefault
+    split splitlines startswith strip update upper values zfill bit_length removeprefix removesuffix""".split())
 OWN_NAMES = {
     "len", "range", "enumerate", "zip", "min", "max", "sum", "abs", "sorted", "reversed", "int", "str", "bool", "bytes",
     "list", "tuple", "dict", "set", "frozenset", "isinstance", "ord", "repr", "any", "all", "divmod", "Exception",
@@ -56,7 +61,7 @@ class LanguageTest(unittest.TestCase):
             for node in ast.walk(ast.parse(path.read_text())):
                 bound = isinstance(node, ast.Name) and not isinstance(node.ctx, ast.Load)
                 name = node.id if isinstance(node, ast.Name) else getattr(node, "arg", getattr(node, "name", None))
-                if isinstance(name, str) and not isinstance(node, ast.keyword):
+                if isinstance(name, str) and name != "__init__" and not isinstance(node, ast.keyword):
                     self.assertFalse(name.startswith("_"), (path.name, name))
                     if isinstance(node, ast.Name) and not bound:
                         self.assertTrue(name not in builtin or name in OWN_NAMES, (path.name, name))
@@ -86,3 +91,18 @@ class LanguageTest(unittest.TestCase):
             self.assertTrue(free, drawn_from)
             for name in free:
                 del drawn_from[name]
+
+    def test_methods_and_values(self):
+        """L18, L25 and L26: a name is a method or a value of objects, and none that Python's own values have."""
+        nodes = [node for path in FILES for node in ast.walk(ast.parse(path.read_text()))]
+        classes = [node for node in nodes if isinstance(node, ast.ClassDef)]
+        attributes = [node for node in nodes if isinstance(node, ast.Attribute)]
+        methods = {each.name for node in classes for each in node.body if isinstance(each, ast.FunctionDef)}
+        values = {node.attr for node in attributes if isinstance(node.ctx, ast.Store)}
+        self.assertFalse(methods & values)
+        for own in (str, int, list, tuple, dict, set, bytes, ValueError):
+            self.assertFalse((methods - {"__init__"} | values) & set(dir(own)), own)
+        self.assertLessEqual({node.attr for node in attributes}, methods | values | OWN_METHODS)
+        for node in attributes:
+            if isinstance(node.ctx, ast.Store):
+                self.assertIsInstance(node.value, ast.Name)

@@ -15,6 +15,8 @@ LONE = ("turned", "bare")
 PAIRED = (
     "sum", "difference", "compare", "both", "any", "odd", "product", "signed product", "quotient", "signed quotient",
 )
+PRODUCTS = ("product", "signed product")
+QUOTIENTS = ("quotient", "signed quotient")
 SHIFTS = ("left", "right", "down", "roll")
 WAYS = ("plain", "signed")
 
@@ -46,6 +48,20 @@ def is_deed(thing):
 def is_paired(deed):
     """Whether a deed is one of two numbers."""
     return deed[0] in PAIRED
+
+
+def answer_words(deed, n):
+    """How many words the answer of a deed has, of numbers of n words."""
+    if deed[0] == "compare":
+        return 0
+    if deed[0] == "led":
+        return n + deed[3]
+    return 2 * n if deed[0] in PRODUCTS else n
+
+
+def rest_words(deed, n):
+    """How many words the rest of a deed has, of numbers of n words; 0 where there is none."""
+    return n if deed[0] in QUOTIENTS else 0
 
 
 def shift_telling(name, s):
