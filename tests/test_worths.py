@@ -135,10 +135,13 @@ class ComesTest(DeedCase):
 
 
 class RefusedTest(unittest.TestCase):
+    def tell(self, deed, w, n, x, y):
+        return comes(deed, w, n, x, y)
+
     def check_refused(self, error, deed, w, n, x, y):
         for again in range(2):
             with self.assertRaises(error, msg=(deed, w, n, x, y)) as caught:
-                comes(deed, w, n, x, y)
+                self.tell(deed, w, n, x, y)
             self.assertIs(type(caught.exception), error)
 
     def test_no_deed(self):
@@ -152,18 +155,19 @@ class RefusedTest(unittest.TestCase):
             for deed in [("sum",), ("compare",), ("odd",), ("product",), ("quotient",), ("signed quotient",)]:
                 for x, y in [(-1, 1), (top, 1), (1, -1), (1, top), (-1, 0), (top, 0), (10 ** 59, 1), (0, -10 ** 59)]:
                     self.check_refused(NoFit, deed, w, n, x, y)
-                comes(deed, w, n, top - 1, top - 1)
+                self.tell(deed, w, n, top - 1, top - 1)
             for deed in [("turned",), ("bare",), ("left", 0), ("right", 100), ("down", 3), ("roll", 1),
                          ("led", "plain", "signed", 0), ("led", "signed", "signed", 4)]:
                 for x, y in [(-1, 0), (top, 0), (1, 1), (0, top - 1), (0, top), (0, -1), (10 ** 59, 0), (-1, 1)]:
                     self.check_refused(NoFit, deed, w, n, x, y)
-                comes(deed, w, n, top - 1, 0)
+                self.tell(deed, w, n, top - 1, 0)
 
     def test_no_quotient(self):
         for w, n in SHAPES:
             for name in QUOTIENTS:
                 for x in edges(w, n):
                     self.check_refused(NoQuotient, (name,), w, n, x, 0)
+                self.check_refused(NoFit, (name,), w, n, 2 ** (w * n), 0)
 
 
 class ToldSentencesTest(DeedCase):

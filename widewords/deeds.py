@@ -9,6 +9,7 @@ from widewords.shifts import down_telling, left_telling, right_telling, roll_tel
 from widewords.signed import signed_product_telling, signed_quotient_telling
 from widewords.sums import bare_telling, compare_telling, difference_telling, pairwise_telling
 from widewords.sums import sum_telling, turned_telling
+from widewords.tellings import unrolled
 
 PAIRWISE = ("both", "any", "odd")
 LONE = ("turned", "bare")
@@ -32,6 +33,11 @@ def telling(deed):
     if deed[0] in PAIRWISE:
         return pairwise_telling(deed[0])
     return named_telling(deed[0])
+
+
+def deed_rows(deed, w, n):
+    """The rows of a deed's telling, for w and n."""
+    return unrolled(telling(deed), w, n)
 
 
 def is_deed(thing):

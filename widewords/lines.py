@@ -27,6 +27,9 @@ FORMS = {
     "names": (),
 }
 
+# The lines in which the first name is given anew, so that only the names behind it are asked.
+GIVING = ("plain", "signed", "let", "rest", "srest", "wider", "swider", "narrower", "snarrower")
+
 # The deeds by the words that stand for them in a line; behind those of the shifts stands S.
 DEED_WORDS = {
     "sum": "sum",
@@ -58,6 +61,12 @@ def read_line(line):
     if first not in FORMS:
         raise NoLine(f"no line begins with {first}")
     return (first,) + read_words(FORMS[first], behind)
+
+
+def asked_names(told):
+    """The names in what read_line told that are to stand for something."""
+    names = tuple([thing for thing in told[1:] if isinstance(thing, str)])
+    return names[1:] if told[0] in GIVING else names
 
 
 def read_let(words):
