@@ -65,7 +65,9 @@ class Machine:
     def go_made(self, row):
         # The last cell is y; in a row of one word it is x again, which the row leaves aside as y.
         x, y = self.held_in(row[2]), self.held_in(row[-1])
-        self.words[row[1]], self.marked = made(row[0], self.w, x, y, self.marked)
+        word, mark = made(row[0], self.w, x, y, self.marked)
+        self.words[row[1]] = word
+        self.marked = mark
 
 
 def known_cell(letter, at):
